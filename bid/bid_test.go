@@ -169,7 +169,7 @@ func TestRestore(t *testing.T) { // P25.3
 		"64": {many[:64], 65, true}, "65": {many, 66, false}, "next not above": {many[:64], 64, false}, "falling": {[]Auction{many[1], many[0]}, 9, false}, "twice": {[]Auction{many[1], many[1]}, 9, false},
 		"a number 0": {[]Auction{{0, 1, 1, 0, 0, 0, 0}}, 9, false}, "a deed 0": {[]Auction{{1, 0, 1, 0, 0, 0, 0}}, 9, false}, "a seller 0": {[]Auction{{1, 1, 0, 0, 0, 0, 0}}, 9, false},
 		"one deed twice": {[]Auction{{1, 1, 1, 0, 0, 0, 0}, {2, 1, 1, 0, 0, 0, 0}}, 9, false}, "least below 0": {[]Auction{{1, 1, 1, -1, 0, 0, 0}}, 9, false}, "least too great": {[]Auction{{1, 1, 1, most + 1, 0, 0, 0}}, 9, false},
-		"a best bid": {[]Auction{{1, 1, 1, 5, 5, 2, 0}}, 9, true}, "below least": {[]Auction{{1, 1, 1, 5, 4, 2, 0}}, 9, false}, "of the seller": {[]Auction{{1, 1, 1, 5, 5, 1, 0}}, 9, false}, "of nobody": {[]Auction{{1, 1, 1, 5, 5, 0, 0}}, 9, false},
+		"a best bid": {[]Auction{{1, 1, 1, 5, 5, 2, 0}}, 9, true}, "a best bid of the account 1": {[]Auction{{1, 1, 2, 5, 5, 1, 0}}, 9, true}, "below least": {[]Auction{{1, 1, 1, 5, 4, 2, 0}}, 9, false}, "of the seller": {[]Auction{{1, 1, 1, 5, 5, 1, 0}}, 9, false}, "of nobody": {[]Auction{{1, 1, 1, 5, 5, 0, 0}}, 9, false},
 		"of a bidder below 0": {[]Auction{{1, 1, 1, 5, 5, -2, 0}}, 9, false}, "of 0": {[]Auction{{1, 1, 1, 0, 0, 2, 0}}, 9, true}, "of too much": {[]Auction{{1, 1, 1, 5, most + 1, 2, 0}}, 9, false},
 		"of too much, and nobody": {[]Auction{{1, 1, 1, 0, -1, 0, 0}}, 9, false}, "ends below 0": {[]Auction{{1, 1, 1, 0, 0, 0, -1}}, 9, false}, "ends too late": {[]Auction{{1, 1, 1, 0, 0, 0, 1<<42 + 1}}, 9, false}, "ends late": {[]Auction{{1, 1, 1, 0, 0, 0, 1 << 42}}, 9, true},
 	} {

@@ -138,6 +138,78 @@ func TestOrders(t *testing.T) { // P10.2, P10.3
 	}
 }
 
+func TestManyPages(t *testing.T) { // P10.2, P10.4: numbers of pages that need both bytes
+	p, tree := newTree(t, 64)
+	m := map[int]int{}
+	for i := range 900 {
+		k := i * 7919 % 1009
+		if e := tree.Put(k, i); e != api.OK {
+			t.Fatal(e)
+		}
+		m[k] = i
+	}
+	if l := tree.Pages(); l[len(l)-1] < 300 {
+		t.Fatalf("only %d pages", len(l))
+	}
+	check(t, p, tree, m)
+	for k := range 1009 {
+		v, e := tree.Get(k)
+		if w, ok := m[k]; v != w || ok != (e == api.OK) {
+			t.Fatalf("Get(%d): %d, %d", k, v, e)
+		}
+	}
+}
+
+func TestDeep(t *testing.T) { // P10.1: a node that lies deeper than 40
+	for _, deep := range []int{30, 60} {
+		p := newPager(t, 256, 64)
+		for range 2*deep + 1 {
+			p.Alloc()
+		}
+		tree := At(p, 0)
+		for i := range deep { // the page i leads to a leaf, and to the page below it
+			tree.write(&node{page: i, keys: []int{10 * i}, values: []int{i}, kids: []int{deep + 1 + i, i + 1}})
+			tree.write(&node{page: deep + 1 + i, keys: []int{10*i - 5}, values: []int{0}})
+		}
+		tree.write(&node{page: deep, keys: []int{10 * deep}, values: []int{deep}})
+		want := api.OK
+		if deep > 40 {
+			want = api.ErrBad
+		}
+		if _, e := tree.Get(10 * deep); e != want {
+			t.Errorf("Get in %d nodes: %d", deep, e)
+		}
+		if _, _, e := tree.Greatest(); e != want {
+			t.Errorf("Greatest in %d nodes: %d", deep, e)
+		}
+		if e := tree.Put(10*deep+1, 0); e != want {
+			t.Errorf("Put in %d nodes: %d", deep, e)
+		}
+		if tree.Check() {
+			t.Error("leaves at many depths")
+		}
+		if n := tree.Len(); deep < 40 && n != 2*deep+2 || deep > 40 && n > 2*41 {
+			t.Errorf("Len in %d nodes: %d", deep, n)
+		}
+	}
+}
+
+func TestNothingBeyondTheLastKey(t *testing.T) { // P10.3: no keys lie above the greatest number, or below the least
+	for _, c := range []struct{ key, left, right int }{{math.MaxInt, 3, 5}, {math.MinInt, 3, 5}, {math.MaxInt, 3, math.MinInt}} {
+		p := newPager(t, 64, 64)
+		for range 3 {
+			p.Alloc()
+		}
+		tree := At(p, 0)
+		tree.write(&node{page: 0, keys: []int{c.key}, values: []int{0}, kids: []int{1, 2}})
+		tree.write(&node{page: 1, keys: []int{c.left}, values: []int{0}})
+		tree.write(&node{page: 2, keys: []int{c.right}, values: []int{0}})
+		if tree.Check() {
+			t.Errorf("%v: Check", c)
+		}
+	}
+}
+
 func TestFarKeys(t *testing.T) { // P10.2
 	p, tree := newTree(t, 64)
 	m := map[int]int{}

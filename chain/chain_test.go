@@ -180,7 +180,7 @@ func TestPagersErrors(t *testing.T) { // P11.1, P11.2
 	}
 	first, _ := Put(p, some(100))
 	p.Commit()
-	if _, e := Put(p, some(100)); e != api.ErrState {
+	if first, e := Put(p, some(100)); first != 0 || e != api.ErrState {
 		t.Errorf("Put: %d", e)
 	}
 	if _, e := Put(p, nil); e != api.ErrRange {
@@ -190,7 +190,7 @@ func TestPagersErrors(t *testing.T) { // P11.1, P11.2
 		t.Errorf("Del: %d", e)
 	}
 	p.Begin()
-	if _, e := Put(p, some(59*15)); e != api.ErrFull {
+	if first, e := Put(p, some(59*15)); first != 0 || e != api.ErrFull {
 		t.Errorf("Put: %d", e)
 	}
 	p.Abort()
@@ -224,5 +224,23 @@ func TestMemory(t *testing.T) { // P11.3
 	clear(got[:cap(got)])
 	if got, _ = Get(p, first); !bytes.Equal(got, was[:100]) {
 		t.Error("what is handed in is kept, or what is told is no new memory")
+	}
+}
+
+func TestFarPages(t *testing.T) { // P11.2: pages whose numbers need both bytes
+	_, p := newPager(t, 1000, 256)
+	for range 700 {
+		p.Alloc()
+	}
+	b := some(1 << 14)
+	first, e := Put(p, b)
+	if e != api.OK || first != 700 {
+		t.Fatalf("Put: %d, %d", first, e)
+	}
+	if got, e := Get(p, first); e != api.OK || !bytes.Equal(got, b) {
+		t.Errorf("Get: %d", e)
+	}
+	if Del(p, first) != api.OK || p.Used() != 700 {
+		t.Error("Del")
 	}
 }

@@ -86,6 +86,8 @@ func TestBuild(t *testing.T) { // P22.1, P22.2
 	build(t, c, 7, 4, 0, api.ErrMany)
 	build(t, c, 7, 1, 0, api.ErrRange)
 	build(t, c, math.MaxInt, 2, 1, api.OK)
+	build(t, c, 1, 2, 1, api.OK)
+	c.Clear(1)
 	is(t, "Alter", c.Alter(7, 3, 2), api.OK)
 	is(t, "Alter", c.Alter(8, 1, 2), api.ErrNone)
 	check(t, c, Row{3, []int{4}}, Row{7, []int{3, 2, 2, 4}}, Row{math.MaxInt, []int{2}})
@@ -110,6 +112,12 @@ func TestRestore(t *testing.T) { // P22.3
 		if c, ok := Restore(l); ok || c != nil {
 			t.Error(name)
 		}
+	}
+}
+
+func TestRestoreOfTheLeastHouse(t *testing.T) { // P22.3
+	if c, ok := Restore([]Row{{1, []int{2}}}); !ok || c.Len(1) != 1 {
+		t.Error("Restore")
 	}
 }
 

@@ -96,6 +96,10 @@ func TestArm(t *testing.T) { // P5.2
 		t.Error("a write behind the end of the power stands in the cache")
 	}
 	d.Arm(5)
+	_, e = d.Read(0)
+	for _, e := range []api.Errno{e, d.Write(0, fill(3)), d.Flush()} {
+		is(t, "armed when it is down", e, api.ErrDown)
+	}
 	if !d.Down() {
 		t.Error("armed, it is up again")
 	}

@@ -8,6 +8,7 @@ import (
 	"testing"
 
 	"deedhold/api"
+	"deedhold/chain"
 	"deedhold/disk"
 	"deedhold/pager"
 	"deedhold/slotted"
@@ -197,10 +198,10 @@ func TestRefused(t *testing.T) { // P12.2
 		}
 	}
 	p.Commit()
-	if _, e := h.Put(some(1, 1)); e != api.ErrState {
+	if at, e := h.Put(some(1, 1)); at != 0 || e != api.ErrState {
 		t.Errorf("Put: %d", e)
 	}
-	if _, e := h.Put(some(1, 100)); e != api.ErrState || h.Del(place) != api.ErrState {
+	if at, e := h.Put(some(1, 100)); at != 0 || e != api.ErrState || h.Del(place) != api.ErrState {
 		t.Errorf("Put, or Del: %d", e)
 	}
 	if b, e := h.Get(place); e != api.OK || !bytes.Equal(b, some(1, 9)) {
@@ -208,7 +209,7 @@ func TestRefused(t *testing.T) { // P12.2
 	}
 	p.Begin()
 	c := h.Copy()
-	if _, e := h.Put(some(1, 2000)); e != api.ErrFull {
+	if at, e := h.Put(some(1, 2000)); at != 0 || e != api.ErrFull {
 		t.Errorf("Put: %d", e)
 	}
 	p.Abort()
@@ -310,5 +311,63 @@ func TestCopyAndMemory(t *testing.T) { // P12.1, P12.3
 	clear(h.Pages())
 	if !slices.Equal(h.Pages(), []int{0, 1}) {
 		t.Error("Pages tells its own memory")
+	}
+}
+
+func TestLongest(t *testing.T) { // P12.2
+	d, p := newPager(t, 1000, 64)
+	h := New(p)
+	b := some(3, 1<<14)
+	place, e := h.Put(b)
+	if got, f := h.Get(place); e != api.OK || f != api.OK || !bytes.Equal(got, b) {
+		t.Fatalf("Put %d, Get %d", e, f)
+	}
+	if to, e := h.Set(place, some(4, 1<<14)); to != place || e != api.OK {
+		t.Errorf("Set: %d, %d", to, e)
+	}
+	p.Commit()
+	p.Begin()
+	d.Arm(0)
+	if at, e := h.Put(some(1, 1)); at != 0 || e != api.ErrDown {
+		t.Errorf("Put: %d", e)
+	}
+	if b, e := h.Get(place); b != nil || e != api.ErrDown {
+		t.Errorf("Get: %d", e)
+	}
+}
+
+func TestChainOfAShortRecord(t *testing.T) { // P12.2: what is short does not lie in a chain
+	_, p := newPager(t, 40, 64)
+	h := New(p)
+	place, _ := h.Put(some(1, 28))
+	for n, want := range map[int]api.Errno{28: api.ErrBad, 29: api.OK, 1: api.ErrBad} {
+		first, _ := chain.Put(p, some(1, n))
+		s := slotted.New(64)
+		s.Put([]byte{1, byte(first), byte(first >> 8)})
+		p.Write(place/64, s.Bytes())
+		if _, e := h.Get(place); e != want {
+			t.Errorf("%d bytes: %d", n, e)
+		}
+	}
+	s := slotted.New(64)
+	s.Put([]byte{0, 7})
+	p.Write(place/64, s.Bytes())
+	if b, e := h.Get(place); e != api.OK || !bytes.Equal(b, []byte{7}) {
+		t.Errorf("one byte: %x, %d", b, e)
+	}
+}
+
+func TestFarPlaces(t *testing.T) { // P12.1: chains whose pages need both bytes
+	_, p := newPager(t, 1000, 256)
+	for range 600 {
+		p.Alloc()
+	}
+	h := New(p)
+	place, e := h.Put(some(1, 900))
+	if b, f := h.Get(place); e != api.OK || f != api.OK || !bytes.Equal(b, some(1, 900)) {
+		t.Errorf("Put %d, Get %d", e, f)
+	}
+	if h.Del(place) != api.OK || p.Used() != 600 {
+		t.Error("Del")
 	}
 }

@@ -416,8 +416,11 @@ func TestBadRoots(t *testing.T) { // P8.1
 
 func TestStates(t *testing.T) { // P8.2
 	p := open(t, disk.New(8, 64))
-	_, e := p.Alloc()
+	i, e := p.Alloc()
 	is(t, "Alloc", e, api.ErrState)
+	if i != 0 {
+		t.Error("a page beside an error")
+	}
 	is(t, "Write", p.Write(99, nil), api.ErrState)
 	is(t, "Free", p.Free(-1), api.ErrState)
 	is(t, "Commit", p.Commit(), api.ErrState)
@@ -518,5 +521,29 @@ func TestMemory(t *testing.T) { // P8.5
 	}
 	if n != 2 {
 		t.Error("All, as far as it is asked")
+	}
+}
+
+func TestManySectors(t *testing.T) { // P8.1, P8.4: numbers of sectors that need both bytes
+	d := disk.New(1000, 1024)
+	p := open(t, d)
+	p.Begin()
+	for i := range 600 {
+		p.Alloc()
+		is(t, "Write", p.Write(i, fill(i, 1024)), api.OK)
+	}
+	is(t, "Commit", p.Commit(), api.OK)
+	root, _ := slots.Load(d)
+	b, _ := d.Read(root.Table[0])
+	for i := range 512 {
+		if int(b[2*i])|int(b[2*i+1])<<8 != i+2 {
+			t.Fatalf("the page %d is at %x", i, b[2*i:2*i+2])
+		}
+	}
+	p = open(t, d)
+	for i := range 600 {
+		if b, e := p.Read(i); e != api.OK || !bytes.Equal(b, fill(i, 1024)) {
+			t.Fatalf("Read(%d): %d", i, e)
+		}
 	}
 }

@@ -186,6 +186,22 @@ func TestEdges(t *testing.T) { // P15.1, P15.2
 	}
 }
 
+func TestGreatest(t *testing.T) { // P15.1: the last tiles of the greatest side
+	q := New(256)
+	q.Set(rect.Rect{X: 255, Y: 255, W: 1, H: 1}, 7)
+	q.Set(rect.Rect{X: 254, Y: 0, W: 1, H: 1}, 8)
+	for p, want := range map[[2]int]int{{255, 255}: 7, {254, 255}: 0, {255, 254}: 0, {254, 0}: 8, {253, 0}: 0, {255, 0}: 0} {
+		if v, ok := q.At(p[0], p[1]); v != want || !ok {
+			t.Errorf("At %v: %d, %t", p, v, ok)
+		}
+	}
+	for _, p := range [][2]int{{256, 255}, {255, 256}, {-1, 0}, {0, -1}} {
+		if v, ok := q.At(p[0], p[1]); v != 0 || ok {
+			t.Errorf("At %v: %d, %t", p, v, ok)
+		}
+	}
+}
+
 func TestParse(t *testing.T) { // P15.3
 	for name, c := range map[string]struct {
 		b    string
@@ -193,7 +209,7 @@ func TestParse(t *testing.T) { // P15.3
 	}{
 		"nothing": {"", 4}, "half a leaf": {"\x00", 4}, "a byte more": {"\x00\x01\x00", 4}, "another kind": {"\x02\x00", 4}, "quarters of a tile": {"\x01\x00\x01\x00\x02\x00\x03\x00\x04", 1},
 		"four leaves of one value": {"\x01\x00\x07\x00\x07\x00\x07\x00\x07", 4}, "three quarters": {"\x01\x00\x01\x00\x02\x00\x03", 4}, "no side": {"\x00\x00", 3}, "a side too great": {"\x00\x00", 512},
-		"a side of nought": {"\x00\x00", 0}, "four of one value, deeper": {"\x01\x00\x01\x00\x01\x00\x01\x01\x00\x01\x00\x01\x00\x01\x00\x01", 4},
+		"a side of nought": {"\x00\x00", 0}, "quarters of a tile, deeper": {"\x01\x01\x00\x01\x00\x02\x00\x03\x00\x04\x00\x02\x00\x03\x00\x04", 2}, "four of one value, deeper": {"\x01\x00\x01\x00\x01\x00\x01\x01\x00\x01\x00\x01\x00\x01\x00\x01", 4},
 	} {
 		if q, ok := Parse([]byte(c.b), c.side); ok || q != nil {
 			t.Errorf("%s", name)

@@ -45,6 +45,7 @@ func TestAdd(t *testing.T) { // P24.1
 		is(t, name, r.Add(c.house, c.rate, c.now), c.e)
 	}
 	check(t, r, Row{3, api.MaxGold, api.MaxTick + 100}, Row{7, 5, 100})
+	is(t, "the least house", r.Add(1, 1, 0), api.OK)
 	is(t, "Drop", r.Drop(7), api.OK)
 	for _, house := range []int{7, 0, -1, math.MaxInt} {
 		x, e := r.Get(house)

@@ -52,6 +52,9 @@ func check(t *testing.T, tree *Tree[int], m []thing, asked rect.Rect) {
 	if !tree.Check() || tree.Len() != len(m) {
 		t.Fatalf("Check %t, Len %d; want %d", tree.Check(), tree.Len(), len(m))
 	}
+	if leaves, ok := shape(tree.root, true); !ok || len(leaves) > 1 || len(m) > 0 && leaves[tree.Deep()] == 0 {
+		t.Fatalf("its shape: leaves at %v", leaves)
+	}
 	if n := len(m); tree.Deep() < 1 || n >= 2 && tree.Deep() > bits.Len(uint(n)) || n < 2 && tree.Deep() != 1 {
 		t.Fatalf("Deep %d, of %d", tree.Deep(), n)
 	}
@@ -72,6 +75,79 @@ func check(t *testing.T, tree *Tree[int], m []thing, asked rect.Rect) {
 	}
 	if !slices.Equal(told(tree.All()), sorted(slices.Clone(m))) {
 		t.Fatal("All")
+	}
+}
+
+// shape tells at which depths leaves lie, and whether all nodes are as the document has them.
+func shape(n *node[int], root bool) (map[int]int, bool) {
+	leaves, ok := map[int]int{}, len(n.entries) <= 4 && (root || len(n.entries) >= 2)
+	for _, e := range n.entries {
+		if e.kid == nil {
+			leaves[1]++
+			continue
+		}
+		var all rect.Rect
+		for _, x := range e.kid.entries {
+			all = all.Join(x.box)
+		}
+		below, right := shape(e.kid, false)
+		for depth, k := range below {
+			leaves[depth+1] += k
+		}
+		ok = ok && right && all == e.box && len(n.entries) >= 2
+	}
+	return leaves, ok
+}
+
+func TestCheck(t *testing.T) { // P14.3: Check of trees that are wrong inside
+	for name, change := range map[string]func(tree *Tree[int]){
+		"nothing":         func(tree *Tree[int]) {},
+		"another count":   func(tree *Tree[int]) { tree.count++ },
+		"another height":  func(tree *Tree[int]) { tree.height++ },
+		"a lesser height": func(tree *Tree[int]) { tree.height-- },
+		"a wrong box":     func(tree *Tree[int]) { tree.root.entries[0].box.W++ },
+		"one child": func(tree *Tree[int]) {
+			tree.count -= len(tree.root.entries[0].kid.entries)
+			tree.root.entries = tree.root.entries[1:]
+		},
+		"one thing": func(tree *Tree[int]) {
+			kid := tree.root.entries[0].kid
+			tree.count -= len(kid.entries) - 1
+			kid.entries = kid.entries[:1]
+			tree.root.entries[0].box = kid.box()
+		},
+		"five things": func(tree *Tree[int]) {
+			kid := tree.root.entries[0].kid
+			for len(kid.entries) < 5 {
+				kid.entries = append(kid.entries, kid.entries[0])
+				tree.count++
+			}
+		},
+		"a leaf too high": func(tree *Tree[int]) {
+			tree.root.entries[0] = entry[int]{box: tree.root.entries[0].kid.entries[0].box}
+			tree.count -= 1
+		},
+		"a leaf too deep": func(tree *Tree[int]) {
+			kid := tree.root.entries[0].kid
+			tree.root.entries[0].kid = &node[int]{[]entry[int]{{box: kid.box(), kid: kid}, {box: kid.box(), kid: kid}}}
+			tree.count += len(kid.entries)
+		},
+		"a thing of no tile": func(tree *Tree[int]) {
+			tree.root.entries[0].kid.entries[0].box = rect.Rect{}
+			tree.root.entries[0].box = tree.root.entries[0].kid.box()
+		},
+	} {
+		tree := New[int]()
+		for i := range 6 {
+			tree.Insert(rect.Rect{X: 10 * i, W: 2, H: 2}, i)
+		}
+		if tree.Deep() != 2 || len(tree.root.entries) != 2 {
+			t.Fatal("another shape than the changes are made for")
+		}
+		change(tree)
+		if tree.Check() != (name == "nothing") {
+			t.Errorf("%s: Check", name)
+		}
 	}
 }
 

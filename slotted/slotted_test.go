@@ -154,6 +154,29 @@ func TestModel(t *testing.T) { // P9.1, P9.2, P9.3
 	}
 }
 
+func TestLongRecords(t *testing.T) { // P9.1: lengths that need both bytes
+	p := New(4096)
+	slots := [][]byte{rec(1, 300), rec(2, 256), rec(3, 255), rec(4, 3000)}
+	for _, r := range slots {
+		p.Put(r)
+	}
+	want, _ := encode(slots, 4096)
+	if !bytes.Equal(p.Bytes(), want) {
+		t.Errorf("%x", p.Bytes()[:20])
+	}
+	q, ok := Load(want)
+	if !ok || !bytes.Equal(q.Bytes(), want) || q.Room() != 4096-1-8-3811-2 {
+		t.Error("Load")
+	}
+	full, _ := encode(slices.Repeat([][]byte{{7}}, 63), 4096)
+	if _, ok := Load(full); !ok {
+		t.Error("63 slots")
+	}
+	if p, ok := Load(append(append([]byte{64}, bytes.Repeat([]byte{1, 0}, 64)...), append(rec(7, 64), make([]byte, 300)...)...)); ok || p != nil {
+		t.Error("64 slots")
+	}
+}
+
 func TestMany(t *testing.T) { // P9.2, P9.3
 	p := New(4096)
 	for i := range 63 {

@@ -160,7 +160,7 @@ func TestRestore(t *testing.T) { // P23.3
 		l    []Row
 		want bool
 	}{
-		"nothing": {nil, true}, "some": {[]Row{{2, most, goods(16)}, {3, 0, []Good{{17, most}}}}, true}, "falling": {[]Row{{3, 0, nil}, {2, 0, nil}}, false}, "twice": {[]Row{{3, 0, nil}, {3, 0, nil}}, false},
+		"nothing": {nil, true}, "the least house": {[]Row{{1, 0, goods(1)}}, true}, "some": {[]Row{{2, most, goods(16)}, {3, 0, []Good{{17, most}}}}, true}, "falling": {[]Row{{3, 0, nil}, {2, 0, nil}}, false}, "twice": {[]Row{{3, 0, nil}, {3, 0, nil}}, false},
 		"a house 0": {[]Row{{0, 0, nil}}, false}, "a till below 0": {[]Row{{1, -1, nil}}, false}, "a till too great": {[]Row{{1, most + 1, nil}}, false}, "too many goods": {[]Row{{1, 0, goods(17)}}, false},
 		"goods that fall": {[]Row{{1, 0, []Good{{2, 1}, {1, 1}}}}, false}, "a good twice": {[]Row{{1, 0, []Good{{2, 1}, {2, 1}}}}, false}, "a good of two": {[]Row{{1, 0, []Good{{2, 1}}}, {2, 0, []Good{{2, 1}}}}, false},
 		"a thing 0": {[]Row{{1, 0, []Good{{0, 1}}}}, false}, "a price 0": {[]Row{{1, 0, []Good{{1, 0}}}}, false}, "a price too great": {[]Row{{1, 0, []Good{{1, most + 1}}}}, false},

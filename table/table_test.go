@@ -182,7 +182,10 @@ func TestRefused(t *testing.T) { // P13.2
 	if _, e := New(p, texts{}); e != api.ErrState {
 		t.Errorf("New: %d", e)
 	}
-	if o.Put(1, "z") != api.ErrState || o.Put(1, "none") != api.ErrRange || o.Del(2) != api.ErrNone {
+	if id, e := New(p, texts{}); id != nil || e != api.ErrState {
+		t.Errorf("New: %d", e)
+	}
+	if o.Put(1, "z") != api.ErrState || o.Put(3, "z") != api.ErrState || o.Del(1) != api.ErrState || o.Put(1, "none") != api.ErrRange || o.Del(2) != api.ErrNone {
 		t.Error("without a change")
 	}
 	p.Begin()
@@ -195,6 +198,29 @@ func TestRefused(t *testing.T) { // P13.2
 	_, g := x.Get(1)
 	if e != api.ErrDown || f != api.ErrDown || g != api.ErrDown || x.Check() {
 		t.Errorf("down: %d %d %d", e, f, g)
+	}
+}
+
+func TestLastIDs(t *testing.T) { // P13.2
+	_, p, x := newTable(t, 600)
+	if e := x.Put(1<<40-1, "a"); e != api.OK || x.Next() != 1<<40 {
+		t.Fatalf("Put: %d", e)
+	}
+	if id, e := x.Add(strings.Repeat("b", 1<<14-1)); id != 1<<40 || e != api.OK {
+		t.Errorf("Add of the longest value: %d, %d", id, e)
+	}
+	if id, e := x.Add("c"); id != 0 || e != api.ErrMany {
+		t.Errorf("Add: %d, %d", id, e)
+	}
+	if id, e := x.Add(strings.Repeat("b", 1<<14)); id != 0 || e != api.ErrRange {
+		t.Errorf("Add: %d, %d", id, e)
+	}
+	p.Commit()
+	if id, e := x.Add("c"); id != 0 || e != api.ErrMany {
+		t.Errorf("Add: %d, %d", id, e)
+	}
+	if o, e := Open(p, x.Root(), texts{}); e != api.OK || !o.Check() || o.Len() != 2 {
+		t.Errorf("Open: %d", e)
 	}
 }
 
