@@ -8,7 +8,9 @@ import (
 	"deedhold/access"
 	"deedhold/api"
 	"deedhold/bid"
+	"deedhold/chest"
 	"deedhold/deed"
+	"deedhold/folk"
 	"deedhold/rect"
 	"deedhold/rent"
 	"deedhold/stall"
@@ -675,6 +677,51 @@ func TestEqual(t *testing.T) { // P26.2
 	}
 	if !(Parts{Things: []thing.Thing{}, Auctions: []bid.Auction{}}).Equal(Parts{}) || (Parts{Now: 1}).Equal(Parts{Held: 1}) {
 		t.Error("parts")
+	}
+	full := func() Parts {
+		return Parts{1, []folk.Row{{Name: "a", Gold: 1}}, 2, []Plot{{1, rect.Rect{X: 1}}}, []access.House{{Owner: 1, Co: []int{1}}}, []deed.Deed{{ID: 1}}, 3, []thing.Thing{{ID: 1}}, 4,
+			[]chest.Row{{House: 1, Needs: []int{2}}}, []stall.Row{{House: 1, Till: 1, Goods: []stall.Good{{Thing: 1, Price: 1}}}}, []rent.Row{{House: 1}}, []bid.Auction{{ID: 1}}, 5}
+	}
+	for i, change := range []func(p *Parts){func(p *Parts) { p.Now++ }, func(p *Parts) { p.Held++ }, func(p *Parts) { p.NextDeed++ }, func(p *Parts) { p.NextThing++ }, func(p *Parts) { p.NextBid++ },
+		func(p *Parts) { p.Folk[0].Gold++ }, func(p *Parts) { p.Folk = nil }, func(p *Parts) { p.Plots[0].Rect.X++ }, func(p *Parts) { p.Houses[0].Co[0]++ }, func(p *Parts) { p.Houses[0].Bans = []int{1} },
+		func(p *Parts) { p.Deeds[0].Holder++ }, func(p *Parts) { p.Things[0].Place.Slot++ }, func(p *Parts) { p.Chests[0].House++ }, func(p *Parts) { p.Chests[0].Needs[0]++ }, func(p *Parts) { p.Chests = nil },
+		func(p *Parts) { p.Stalls[0].House++ }, func(p *Parts) { p.Stalls[0].Till++ }, func(p *Parts) { p.Stalls[0].Goods[0].Price++ }, func(p *Parts) { p.Stalls[0].Goods = nil }, func(p *Parts) { p.Rents[0].Due++ }, func(p *Parts) { p.Auctions[0].Ends++ }} {
+		p := full()
+		change(&p)
+		if p.Equal(full()) || full().Equal(p) || !full().Equal(full()) {
+			t.Errorf("the change %d", i)
+		}
+	}
+}
+
+func TestParts(t *testing.T) { // P26.2
+	w := settled(t)
+	w.n(Order{Who: ann, Kind: build, A: 1, B: 3}, 1)
+	w.n(Order{Who: ann, Kind: open, A: 1}, 0)
+	w.n(Order{Who: ann, Kind: makeThing, Text: "a"}, 1)
+	w.n(Order{Who: ann, Kind: stock, A: 1, B: 1, C: 7}, 0)
+	w.n(Order{Who: ann, Kind: auction, A: 1, B: 5, C: 9}, 1)
+	w.n(Order{Who: eve, Kind: bidOn, A: 1, B: 6}, 0)
+	w.n(Order{Kind: tick, A: 3}, 0)
+	want := Parts{
+		Now:       3,
+		Folk:      []folk.Row{{Name: "ann", Gold: 920}, {Name: "bob", Gold: 1000}, {Name: "cat", Gold: 1000}, {Name: "dan", Gold: 1000}, {Name: "eve", Gold: 994}, {Name: "fay", Gold: 0}},
+		Held:      6,
+		Plots:     []Plot{{1, rect.Rect{W: 4, H: 4}}},
+		Houses:    []access.House{{Owner: ann, Co: []int{bob}, Friends: []int{cat}, Bans: []int{dan}}},
+		Deeds:     []deed.Deed{{ID: 1, Plot: 1, Holder: ann}},
+		NextDeed:  2,
+		Things:    []thing.Thing{{ID: 1, Name: "a", Owner: ann, Place: thing.Place{Kind: 4, House: 1}}},
+		NextThing: 2,
+		Chests:    []chest.Row{{House: 1, Needs: []int{3}}},
+		Stalls:    []stall.Row{{House: 1, Goods: []stall.Good{{Thing: 1, Price: 7}}}},
+		Rents:     []rent.Row{{House: 1, Rate: 16, Due: 100}},
+		Auctions:  []bid.Auction{{ID: 1, Deed: 1, Seller: ann, Least: 5, Best: 6, Bidder: eve, Ends: 9}},
+		NextBid:   2,
+	}
+	s, ok := Restore(64, nil, want)
+	if !w.Parts().Equal(want) || !ok || !s.Parts().Equal(want) {
+		t.Errorf("%+v", w.Parts())
 	}
 }
 

@@ -105,10 +105,19 @@ func TestCreate(t *testing.T) { // P28.1
 	if k, e := Create(p); k != nil || e != api.ErrForm {
 		t.Errorf("Create without a change: %d", e)
 	}
-	p = newPager(t, disk.New(10, 64))
+	for sectors := 8; sectors < 20; sectors++ {
+		p = newPager(t, disk.New(sectors, 64))
+		p.Begin()
+		k, e := Create(p)
+		if (k == nil) != (e == api.ErrFull) || e != api.OK && e != api.ErrFull || e != api.OK && p.Used() != 0 {
+			t.Errorf("Create on %d sectors: %d", sectors, e)
+		}
+	}
+	p = newPager(t, disk.New(64, 128))
 	p.Begin()
-	if k, e := Create(p); k != nil || e != api.ErrFull {
-		t.Errorf("Create without room: %d", e)
+	p.Alloc()
+	if k, e := Create(p); k != nil || e != api.ErrForm {
+		t.Errorf("Create where a page is used: %d", e)
 	}
 	d = disk.New(64, 128)
 	p = newPager(t, d)
@@ -288,12 +297,20 @@ func TestErrors(t *testing.T) { // P28.2
 
 func TestNoKeep(t *testing.T) { // P28.1
 	for name, change := range map[string]func(p *pager.Pager, k *Keep){
-		"no table at 0":           func(p *pager.Pager, k *Keep) { p.Write(0, make([]byte, 128)) },
-		"the page 0 is free":      func(p *pager.Pager, k *Keep) { p.Free(0) },
-		"no Meta":                 func(p *pager.Pager, k *Keep) { k.meta.table.Del(1) },
-		"a Meta under 2":          func(p *pager.Pager, k *Keep) { k.meta.table.Put(2, Meta{Roots: k.roots()}); k.meta.table.Del(1) },
-		"too few roots":           func(p *pager.Pager, k *Keep) { k.meta.table.Put(1, Meta{Roots: k.roots()[:5]}) },
-		"too many roots":          func(p *pager.Pager, k *Keep) { k.meta.table.Put(1, Meta{Roots: append(k.roots(), 1)}) },
+		"no table at 0":      func(p *pager.Pager, k *Keep) { p.Write(0, make([]byte, 128)) },
+		"the page 0 is free": func(p *pager.Pager, k *Keep) { p.Free(0) },
+		"no Meta":            func(p *pager.Pager, k *Keep) { k.meta.table.Del(1) },
+		"a Meta under 2":     func(p *pager.Pager, k *Keep) { k.meta.table.Put(2, Meta{Roots: k.roots()}); k.meta.table.Del(1) },
+		"too few roots":      func(p *pager.Pager, k *Keep) { k.meta.table.Put(1, Meta{Roots: k.roots()[:5]}) },
+		"too many roots":     func(p *pager.Pager, k *Keep) { k.meta.table.Put(1, Meta{Roots: append(k.roots(), 1)}) },
+		"a root just twice": func(p *pager.Pager, k *Keep) {
+			r := k.roots()
+			r[4] = r[3]
+			k.stalls.table.Del(2)
+			k.stalls.table.Del(5)
+			k.chests.table.Del(2)
+			k.meta.table.Put(1, Meta{Roots: r})
+		},
 		"a root twice":            func(p *pager.Pager, k *Keep) { k.meta.table.Put(1, Meta{Roots: slices.Repeat(k.roots()[5:], 6)}) },
 		"a root that is the Meta": func(p *pager.Pager, k *Keep) { k.meta.table.Put(1, Meta{Roots: append(k.roots()[:5], 0)}) },
 		"a root below 0":          func(p *pager.Pager, k *Keep) { k.meta.table.Put(1, Meta{Roots: append(k.roots()[:5], -1)}) },

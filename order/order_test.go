@@ -59,7 +59,7 @@ func encode(c Command) []byte {
 }
 
 func right() []Command {
-	l := []Command{{Session: 1, Login: "ann"}, {Session: 1 << 20, Login: "abcdefghijklmnop"}}
+	l := []Command{{Order: estate.Order{Kind: 8, Text: strings.Repeat("\xff", 16)}}, {Session: 1, Login: "ann"}, {Session: 1 << 20, Login: "abcdefghijklmnop"}}
 	for kind := 1; kind <= 27; kind++ {
 		for _, session := range []int{0, 1, 1 << 20} {
 			l = append(l, Command{Session: session, Order: estate.Order{Kind: kind}}, Command{Session: session, Order: full(kind)})

@@ -160,6 +160,11 @@ func TestBatch(t *testing.T) { // P29.2, P29.3
 	if l, e := s.Commit(); len(l) != 0 || e != api.OK || d.Commands() != 0 {
 		t.Error("Commit without a batch")
 	}
+	push(t, s, as(t, 0, estate.Order{Kind: 25}), nil)
+	told(t, s, estate.Reply{E: api.ErrRange}, estate.Reply{E: api.ErrCommand})
+	if d.Commands() != 0 || s.Epoch() != 0 {
+		t.Error("a keep is created for nothing")
+	}
 	for range 64 {
 		push(t, s, as(t, 0, estate.Order{Kind: 25, A: 1}))
 	}
@@ -233,6 +238,25 @@ func TestFull(t *testing.T) { // P29.3
 	_, there := s.Session(2)
 	if _, ok := s.Session(2 + made); len(l) != 2 || ok || !there {
 		t.Error("a session of a batch for which there was no room")
+	}
+	for i := range 8 { // what is left over from the batch is in nobody's way
+		push(t, s, as(t, 1, estate.Order{Kind: 9, A: i + 2}), as(t, 1, estate.Order{Kind: 8, Text: "b"}))
+		l, e := s.Commit()
+		is(t, "Commit", e, api.OK)
+		if r, _ := order.ParseReply(l[0]); r.E == api.ErrFull {
+			t.Log("full, again")
+		}
+		for range 64 {
+			push(t, s, as(t, 1, estate.Order{Kind: 8, Text: "abcdefghijklmnop"}))
+		}
+		l, e = s.Commit()
+		is(t, "Commit", e, api.OK)
+		if r, _ := order.ParseReply(l[63]); r.E != api.ErrFull {
+			t.Error("not full any more")
+		}
+		if o := boot(t, d); !o.Parts().Equal(s.Parts()) {
+			t.Fatal("what was committed is not booted")
+		}
 	}
 	small := boot(t, disk.New(8, 64))
 	push(t, small, as(t, 0, estate.Order{Kind: 1, Text: "ann"}), login(t, 1, "ann"))
