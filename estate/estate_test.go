@@ -525,6 +525,17 @@ func TestLastNumbers(t *testing.T) { // P26.3: what follows can still be restore
 	}
 	w.State = s
 	w.no(api.ErrMany, Order{Who: eve, Kind: claim, A: 10, C: 1, D: 1}, Order{Who: eve, Kind: makeThing, Text: "a"}, Order{Who: ann, Kind: auction, A: 1, C: 1})
+	w.no(api.ErrFunds, Order{Who: fay, Kind: claim, A: 10, C: 1, D: 1})
+	w.no(api.ErrName, Order{Who: eve, Kind: makeThing, Text: "A"})
+	w.no(api.ErrRange, Order{Who: ann, Kind: auction, A: 1})
+	w.n(Order{Kind: tick, A: 1}, 0)
+	p.NextDeed, p.NextThing, p.NextBid = 1<<40-1, 1<<40-1, 1<<40-1
+	if w.State, ok = Restore(64, nil, p); !ok {
+		t.Fatal("Restore")
+	}
+	w.n(Order{Who: eve, Kind: claim, A: 10, C: 1, D: 1}, 1<<40-1)
+	w.n(Order{Who: eve, Kind: makeThing, Text: "a"}, 1<<40-1)
+	w.n(Order{Who: ann, Kind: auction, A: 1, C: 1}, 1<<40-1)
 }
 
 func TestCheckAndRestore(t *testing.T) { // P26.2

@@ -17,12 +17,7 @@ const (
 // bankOf is an account's bank.
 func bankOf(who int) thing.Place { return thing.Place{Kind: inBank, House: who} }
 
-func (s *State) makeThing(o Order) Reply {
-	if s.things.Next() >= mostNumber {
-		return refused(api.ErrMany)
-	}
-	return done(s.things.Make(o.Text, o.Who))
-}
+func (s *State) makeThing(o Order) Reply { return done(s.things.Make(o.Text, o.Who)) }
 
 // own: is a thing in somebody's bank?
 func (s *State) own(who, id int) api.Errno {

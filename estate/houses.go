@@ -33,10 +33,6 @@ const (
 // coOwners is the list that only the owner may change.
 const coOwners = 1
 
-// mostNumber is the greatest number that the next deed, thing or auction may be told to have: a state in which one
-// had a greater one could not be restored.
-const mostNumber = 1 << 40
-
 func (s *State) enrol(o Order) Reply { return done(s.folk.Add(o.Text)) }
 
 func (s *State) mint(o Order) Reply { return refused(s.folk.Mint(o.A, o.B)) }
@@ -70,9 +66,6 @@ func (s *State) claim(o Order) Reply {
 	}
 	if e := s.deeds.May(o.Who); e != api.OK {
 		return refused(e)
-	}
-	if s.deeds.Next() >= mostNumber {
-		return refused(api.ErrMany)
 	}
 	price, e := gold.Times(r.Area(), tilePrice)
 	if e == api.OK {

@@ -37,9 +37,6 @@ func (s *State) auction(o Order) Reply {
 	if o.C < 1 || o.C > mostTicks {
 		return refused(api.ErrRange)
 	}
-	if s.bids.Next() >= mostNumber {
-		return refused(api.ErrMany)
-	}
 	return done(s.bids.Open(o.A, s.houses[o.A].Owner, o.B, s.now+o.C))
 }
 
