@@ -547,3 +547,49 @@ func TestManySectors(t *testing.T) { // P8.1, P8.4: numbers of sectors that need
 		}
 	}
 }
+
+func TestNoSectorForATablePage(t *testing.T) { // P8.3
+	d := disk.New(40, 64)
+	p := open(t, d)
+	p.Begin()
+	for i := range 33 {
+		p.Alloc()
+		if i < 32 {
+			p.Write(i, fill(1, 64))
+		}
+	}
+	is(t, "Commit", p.Commit(), api.OK)
+	if p.Room() != 38-32-2 {
+		t.Fatalf("Room %d", p.Room())
+	}
+	p.Begin()
+	for i := range 2 {
+		is(t, "Write", p.Write(i, fill(2, 64)), api.OK)
+	}
+	if p.Room() != 1 {
+		t.Fatalf("Room %d", p.Room())
+	}
+	is(t, "Write where one is there, and two are needed", p.Write(32, fill(2, 64)), api.ErrFull)
+	is(t, "Write where one is needed", p.Write(2, fill(2, 64)), api.OK)
+	if i, e := p.Alloc(); i != 0 || e != api.ErrFull {
+		t.Errorf("Alloc: %d, %d", i, e)
+	}
+	is(t, "Free", p.Free(32), api.ErrFull)
+	is(t, "Write", p.Write(3, fill(2, 64)), api.ErrFull)
+	is(t, "Write again", p.Write(2, fill(3, 64)), api.OK)
+	if p.Room() != 0 || p.Used() != 33 {
+		t.Errorf("Room %d, Used %d", p.Room(), p.Used())
+	}
+	is(t, "Free", p.Free(2), api.OK)
+	if p.Room() != 1 {
+		t.Errorf("Room %d: what the change took is free again", p.Room())
+	}
+	if i, e := p.Alloc(); i != 2 || e != api.OK {
+		t.Errorf("Alloc in a table page that is touched: %d, %d", i, e)
+	}
+	is(t, "Free", p.Free(32), api.OK)
+	is(t, "Commit", p.Commit(), api.OK)
+	if p.Room() != 38-31-1 {
+		t.Errorf("Room %d", p.Room())
+	}
+}
