@@ -130,9 +130,6 @@ func TestLoadSave(t *testing.T) { // P6.2
 	if Save(one, Root{}) != api.ErrForm || Save(one, Root{2, nil}) != api.ErrRange || one.Commands() != 0 {
 		t.Error("a disk of one sector")
 	}
-	if _, e := Load(one); e != api.ErrRange {
-		t.Errorf("Load of one sector: %d", e)
-	}
 	wrong := disk.New(2, 64)
 	wrong.Write(0, encode(Root{1, nil}, 64))
 	wrong.Write(1, encode(Root{2, nil}, 64))
@@ -142,6 +139,26 @@ func TestLoadSave(t *testing.T) { // P6.2
 	wrong.Write(0, encode(Root{2, nil}, 64))
 	if r, e := Load(wrong); e != api.OK || r.Epoch != 2 {
 		t.Error("one of them is right")
+	}
+}
+
+func TestLoadOfOneSector(t *testing.T) { // P6.2
+	d := disk.New(1, 64)
+	if r, e := Load(d); e != api.ErrNone || !r.Equal(Root{}) {
+		t.Errorf("an empty one: %v, %d", r, e)
+	}
+	d.Write(0, encode(Root{3, nil}, 64))
+	if r, e := Load(d); e != api.ErrNone || !r.Equal(Root{}) {
+		t.Errorf("a root whose slot isn't there: %v, %d", r, e)
+	}
+	d.Write(0, encode(Root{4, []int{7}}, 64))
+	if r, e := Load(d); e != api.OK || !r.Equal(Root{4, []int{7}}) {
+		t.Errorf("a root in its slot: %v, %d", r, e)
+	}
+	d.Arm(0)
+	d.Flush()
+	if r, e := Load(d); e != api.ErrDown || !r.Equal(Root{}) {
+		t.Errorf("one that is down: %v, %d", r, e)
 	}
 }
 
